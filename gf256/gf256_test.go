@@ -7,37 +7,13 @@ import (
 	"testing"
 
 	"tegula/api"
+	"tegula/fieldtest"
 )
-
-// longProduct computes a product in another way than the package: the whole product of the polynomials first, then the remainder of its division by 11D.
-func longProduct(a, b byte) byte {
-	product := 0
-	for k := range 8 {
-		if b>>k&1 == 1 {
-			product ^= int(a) << k
-		}
-	}
-	for k := 14; k >= 8; k-- {
-		if product>>k&1 == 1 {
-			product ^= 0x11D << (k - 8)
-		}
-	}
-	return byte(product)
-}
-
-// slowPower multiplies n factors, for n of at least 0.
-func slowPower(a byte, n int) byte {
-	product := byte(1)
-	for range n {
-		product = longProduct(product, a)
-	}
-	return product
-}
 
 // inverseOf searches the inverse of an element other than 0.
 func inverseOf(a byte) byte {
 	for b := range 256 {
-		if longProduct(a, byte(b)) == 1 {
+		if fieldtest.Times(a, byte(b)) == 1 {
 			return byte(b)
 		}
 	}
@@ -52,8 +28,8 @@ func TestSumsAndProducts(t *testing.T) {
 			if s := Add(x, y); int(s) != a^b {
 				t.Fatalf("Add(%d, %d) = %d", a, b, s)
 			}
-			if p := Mul(x, y); p != longProduct(x, y) {
-				t.Fatalf("Mul(%d, %d) = %d, not %d", a, b, p, longProduct(x, y))
+			if p := Mul(x, y); p != fieldtest.Times(x, y) {
+				t.Fatalf("Mul(%d, %d) = %d, not %d", a, b, p, fieldtest.Times(x, y))
 			}
 		}
 	}
@@ -134,7 +110,7 @@ func TestQuotients(t *testing.T) {
 		inverse := inverseOf(byte(b))
 		for a := range 256 {
 			q, e := Div(byte(a), byte(b))
-			if e != api.OK || q != longProduct(byte(a), inverse) {
+			if e != api.OK || q != fieldtest.Times(byte(a), inverse) {
 				t.Fatalf("Div(%d, %d) = %d, %d", a, b, q, e)
 			}
 		}
@@ -158,7 +134,7 @@ func TestPowers(t *testing.T) {
 			if p, e := Pow(x, -n); p != down || e != api.OK {
 				t.Fatalf("Pow(%d, %d) = %d, %d, not %d", a, -n, p, e, down)
 			}
-			up, down = longProduct(up, x), longProduct(down, inverse)
+			up, down = fieldtest.Times(up, x), fieldtest.Times(down, inverse)
 		}
 	}
 }
@@ -186,11 +162,11 @@ func TestExtremeExponents(t *testing.T) {
 		{math.MaxInt, 127}, {math.MaxInt - 1, 126}, {math.MinInt, 127}, {math.MinInt + 1, 128},
 	} {
 		for a := 1; a < 256; a++ {
-			if p, e := Pow(byte(a), c.n); p != slowPower(byte(a), c.small) || e != api.OK {
+			if p, e := Pow(byte(a), c.n); p != fieldtest.Power(byte(a), c.small) || e != api.OK {
 				t.Fatalf("Pow(%d, %d) = %d, %d", a, c.n, p, e)
 			}
 		}
-		if p := Exp(c.n); p != slowPower(2, c.small) {
+		if p := Exp(c.n); p != fieldtest.Power(2, c.small) {
 			t.Errorf("Exp(%d) = %d", c.n, p)
 		}
 	}
@@ -206,7 +182,7 @@ func TestExponentials(t *testing.T) {
 		if p := Exp(-n); p != down {
 			t.Fatalf("Exp(%d) = %d, not %d", -n, p, down)
 		}
-		up, down = longProduct(up, 2), longProduct(down, 142)
+		up, down = fieldtest.Times(up, 2), fieldtest.Times(down, 142)
 	}
 	for _, c := range []struct {
 		n    int
@@ -225,7 +201,7 @@ func TestLogarithms(t *testing.T) {
 		if k, e := Log(p); k != n || e != api.OK {
 			t.Errorf("Log(%d) = %d, %d, not %d", p, k, e, n)
 		}
-		p = longProduct(p, 2)
+		p = fieldtest.Times(p, 2)
 	}
 	if k, e := Log(142); k != 254 || e != api.OK {
 		t.Errorf("Log(142) = %d, %d", k, e)
@@ -247,7 +223,7 @@ func TestFusedElements(t *testing.T) {
 			t.Fatalf("factor %d: %d elements, %d", c, len(list), e)
 		}
 		for i, v := range list {
-			if want := dst[i] ^ longProduct(byte(c), src[i]); v != want {
+			if want := dst[i] ^ fieldtest.Times(byte(c), src[i]); v != want {
 				t.Fatalf("factor %d, element %d: %d, not %d", c, i, v, want)
 			}
 		}

@@ -7,23 +7,8 @@ import (
 	"testing"
 
 	"tegula/api"
+	"tegula/fieldtest"
 )
-
-// times multiplies elements without package gf256: the whole product of the polynomials first, then the remainder of its division by 11D.
-func times(a, b byte) byte {
-	product := 0
-	for k := range 8 {
-		if b>>k&1 == 1 {
-			product ^= int(a) << k
-		}
-	}
-	for k := 14; k >= 8; k-- {
-		if product>>k&1 == 1 {
-			product ^= 0x11D << (k - 8)
-		}
-	}
-	return byte(product)
-}
 
 // longMul computes a product element by element.
 func longMul(a, b [][]byte) [][]byte {
@@ -32,7 +17,7 @@ func longMul(a, b [][]byte) [][]byte {
 		for k := range b[0] {
 			var sum byte
 			for j := range b {
-				sum ^= times(a[i][j], b[j][k])
+				sum ^= fieldtest.Times(a[i][j], b[j][k])
 			}
 			product[i] = append(product[i], sum)
 		}
@@ -59,7 +44,7 @@ func determinant(m [][]byte) byte {
 	var sum byte
 	for k, element := range m[0] {
 		if element != 0 {
-			sum ^= times(element, determinant(minor(m, 0, k)))
+			sum ^= fieldtest.Times(element, determinant(minor(m, 0, k)))
 		}
 	}
 	return sum
@@ -416,7 +401,7 @@ func checkInverse(t *testing.T, m, inverse [][]byte, e api.Errno) {
 	scaled := clone(inverse)
 	for _, row := range scaled {
 		for k := range row {
-			row[k] = times(row[k], d)
+			row[k] = fieldtest.Times(row[k], d)
 		}
 	}
 	if !same(scaled, adjugate(m)) {
