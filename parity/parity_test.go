@@ -11,58 +11,16 @@ import (
 	"tegula/parity"
 )
 
-// coefficientOf is 2^(j i), as a product of j i factors.
-func coefficientOf(j, i int) byte { return fieldtest.Power(2, j*i) }
-
-// sumOf is the sum of two lists of blocks.
-func sumOf(a, b []api.Block) []api.Block {
-	sum := slices.Clone(a)
-	for i := range sum {
-		for k := range sum[i] {
-			sum[i][k] ^= b[i][k]
-		}
-	}
-	return sum
-}
-
-// multipleOf is c times a list of blocks.
-func multipleOf(a []api.Block, c byte) []api.Block {
-	multiple := slices.Clone(a)
-	for i := range multiple {
-		for k := range multiple[i] {
-			multiple[i][k] = fieldtest.Times(multiple[i][k], c)
-		}
-	}
-	return multiple
-}
-
-// directParity is the parity by its definition, without Horner's rule.
-func directParity(data []api.Block) []api.Block {
-	sums := make([]api.Block, 3)
-	for j := range sums {
-		for i, piece := range data {
-			sums[j] = sumOf(sums[j:j+1], multipleOf([]api.Block{piece}, coefficientOf(j, i)))[0]
-		}
-	}
-	return sums
+// bytesOf returns a function that yields arbitrary bytes.
+func bytesOf(r *rand.Rand) func() byte {
+	return func() byte { return byte(r.Uint32()) }
 }
 
 // someBlocks returns n blocks of arbitrary bytes.
-func someBlocks(r *rand.Rand, n int) []api.Block {
-	blocks := make([]api.Block, n)
-	for i := range blocks {
-		for k := range blocks[i] {
-			blocks[i][k] = byte(r.Uint32())
-		}
-	}
-	return blocks
-}
+func someBlocks(r *rand.Rand, n int) []api.Block { return fieldtest.Blocks(n, bytesOf(r)) }
 
 // someGroup returns a consistent group of a width.
-func someGroup(r *rand.Rand, width int) []api.Block {
-	data := someBlocks(r, width-3)
-	return slices.Concat(data, directParity(data))
-}
+func someGroup(r *rand.Rand, width int) []api.Block { return fieldtest.Group(width, bytesOf(r)) }
 
 // numbers returns arbitrary numbers that are always the same.
 func numbers() *rand.Rand { return rand.New(rand.NewPCG(3, 3)) }
@@ -79,7 +37,7 @@ func TestMatrix(t *testing.T) {
 				t.Fatalf("Matrix(%d): row %d has %d elements", data, j, len(row))
 			}
 			for i, c := range row {
-				if want := coefficientOf(j, i); c != want {
+				if want := fieldtest.Coefficient(j, i); c != want {
 					t.Errorf("Matrix(%d): row %d, column %d: %d, not %d", data, j, i, c, want)
 				}
 			}
@@ -120,7 +78,7 @@ func TestMatrixIsNew(t *testing.T) {
 	}
 	again, _ := parity.Matrix(13)
 	for j, row := range again {
-		if row[12] != coefficientOf(j, 12) {
+		if row[12] != fieldtest.Coefficient(j, 12) {
 			t.Errorf("row %d of a later matrix changed with an earlier one: %v", j, row)
 		}
 	}
@@ -134,7 +92,7 @@ func TestEncode(t *testing.T) {
 			data := someBlocks(r, n)
 			before := slices.Clone(data)
 			p, e := parity.Encode(data)
-			if want := directParity(data); e != api.OK || !slices.Equal(p, want) {
+			if want := fieldtest.Parity(data); e != api.OK || !slices.Equal(p, want) {
 				t.Fatalf("Encode(%v) = %v, %d, not %v", data, p, e, want)
 			}
 			if !slices.Equal(data, before) {
@@ -157,7 +115,7 @@ func TestEncodeUnits(t *testing.T) {
 			p, e := parity.Encode(data)
 			want := make([]api.Block, 3)
 			for j := range want {
-				want[j][k] = coefficientOf(j, i)
+				want[j][k] = fieldtest.Coefficient(j, i)
 			}
 			if e != api.OK || !slices.Equal(p, want) {
 				t.Errorf("byte %d of piece %d: %v, %d", k, i, p, e)
@@ -186,10 +144,10 @@ func TestUpdate(t *testing.T) {
 			data := someBlocks(r, n)
 			changed := slices.Clone(data)
 			changed[index] = someBlocks(r, 1)[0]
-			before := directParity(data)
+			before := fieldtest.Parity(data)
 			given := slices.Clone(before)
 			p, e := parity.Update(given, index, data[index], changed[index])
-			if want := directParity(changed); e != api.OK || !slices.Equal(p, want) {
+			if want := fieldtest.Parity(changed); e != api.OK || !slices.Equal(p, want) {
 				t.Fatalf("Update of piece %d of %d = %v, %d, not %v", index, n, p, e, want)
 			}
 			if !slices.Equal(given, before) {
@@ -258,7 +216,7 @@ func TestCheck(t *testing.T) {
 		}
 	}
 	data := someBlocks(r, 14)
-	if parity.Check(nil) || parity.Check(slices.Concat(data, directParity(data))) {
+	if parity.Check(nil) || parity.Check(slices.Concat(data, fieldtest.Parity(data))) {
 		t.Error("no list, or a list of 17 pieces with its parity, is no group")
 	}
 }
@@ -273,17 +231,6 @@ func TestCheckOrder(t *testing.T) {
 			other[i], other[k] = group[k], group[i]
 			if parity.Check(other) {
 				t.Errorf("pieces %d and %d are exchanged", k, i)
-			}
-		}
-	}
-}
-
-// triples calls visit for all increasing triples of numbers less than n.
-func triples(n int, visit func(a, b, c int)) {
-	for c := range n {
-		for b := range c {
-			for a := range b {
-				visit(a, b, c)
 			}
 		}
 	}
@@ -313,7 +260,7 @@ func TestDistanceOfMatrix(t *testing.T) {
 		if e != api.OK {
 			t.Fatal(e)
 		}
-		triples(width, func(a, b, c int) {
+		fieldtest.Triples(width, func(a, b, c int) {
 			if determinant(column(rows, a), column(rows, b), column(rows, c)) == 0 {
 				t.Errorf("width %d: pieces %d, %d and %d depend on each other", width, a, b, c)
 			}
@@ -326,7 +273,7 @@ func TestDistanceOfGroups(t *testing.T) {
 	r := numbers()
 	for width := 4; width <= 16; width++ {
 		group := someGroup(r, width)
-		triples(width, func(a, b, c int) {
+		fieldtest.Triples(width, func(a, b, c int) {
 			other := slices.Clone(group)
 			k := r.IntN(8)
 			for _, i := range []int{a, b, c} {
@@ -371,11 +318,11 @@ func TestLinearity(t *testing.T) {
 		a, b := someBlocks(r, n), someBlocks(r, n)
 		p, _ := parity.Encode(a)
 		q, _ := parity.Encode(b)
-		if s, e := parity.Encode(sumOf(a, b)); e != api.OK || !slices.Equal(s, sumOf(p, q)) {
+		if s, e := parity.Encode(fieldtest.Sum(a, b)); e != api.OK || !slices.Equal(s, fieldtest.Sum(p, q)) {
 			t.Errorf("%d pieces: the parity of a sum is %v, %d", n, s, e)
 		}
 		for c := range 256 {
-			if m, e := parity.Encode(multipleOf(a, byte(c))); e != api.OK || !slices.Equal(m, multipleOf(p, byte(c))) {
+			if m, e := parity.Encode(fieldtest.Multiple(a, byte(c))); e != api.OK || !slices.Equal(m, fieldtest.Multiple(p, byte(c))) {
 				t.Errorf("%d pieces: the parity of %d times them is %v, %d", n, c, m, e)
 			}
 		}
