@@ -6,23 +6,13 @@ import (
 	"testing"
 
 	"tegula/api"
+	"tegula/disktest"
 	"tegula/geometry"
 )
 
-// numbers is a generator of test data.
-type numbers uint64
-
-func (n *numbers) next() uint64 {
-	*n = *n*6364136223846793005 + 1442695040888963407
-	return uint64(*n) ^ uint64(*n)>>29
-}
-
-func (n *numbers) between(least, most int) int {
-	return least + int(n.next()>>1%uint64(most-least+1))
-}
-
-func (n *numbers) geometry() api.Geometry {
-	return api.Geometry{Random: n.between(0, 20), Bands: n.between(1, 6), Tracks: n.between(1, 16), Sectors: n.between(1, 8), Overlap: n.between(0, 3)}
+// middle returns a valid geometry with at most 788 sectors.
+func middle(data *disktest.Numbers) api.Geometry {
+	return api.Geometry{Random: data.Between(0, 20), Bands: data.Between(1, 6), Tracks: data.Between(1, 16), Sectors: data.Between(1, 8), Overlap: data.Between(0, 3)}
 }
 
 // place is what is known about a sector.
@@ -88,9 +78,9 @@ func samples() []api.Geometry {
 		api.Geometry{Bands: 1, Tracks: 16, Sectors: 1, Overlap: 3},
 		api.Geometry{Bands: 1, Tracks: 1, Sectors: 64, Overlap: 3},
 	)
-	data := numbers(1)
+	data := disktest.Numbers(1)
 	for range 40 {
-		all = append(all, data.geometry())
+		all = append(all, middle(&data))
 	}
 	return all
 }
@@ -118,11 +108,6 @@ func invalid() []api.Geometry {
 // fields lists the fields of a geometry.
 func fields(g *api.Geometry) []*int {
 	return []*int{&g.Random, &g.Bands, &g.Tracks, &g.Sectors, &g.Overlap}
-}
-
-// beyond lists numbers that are no index of n things.
-func beyond(n int) []int {
-	return []int{math.MinInt, math.MinInt32, -n - 1, -n, -2, -1, n, n + 1, 2*n + 1, math.MaxInt32, 1 << 32, 1 << 62, math.MaxInt - 1, math.MaxInt}
 }
 
 // P10.1: the examples of the chapter, and the one of chapter 11.
@@ -195,7 +180,7 @@ func TestSizes(t *testing.T) {
 
 // P10.1, P1: with a geometry that is not valid, every function returns ErrArg or no value, also where the address or the place is out of range.
 func TestInvalid(t *testing.T) {
-	values := append(beyond(3), 0, 1, 2, 5, 6, 28)
+	values := append(disktest.Beyond(3), 0, 1, 2, 5, 6, 28)
 	for _, g := range invalid() {
 		if geometry.Size(g) != 0 || geometry.BandSize(g) != 0 {
 			t.Errorf("%+v: Size %d, BandSize %d", g, geometry.Size(g), geometry.BandSize(g))
@@ -253,7 +238,7 @@ func TestPlaces(t *testing.T) {
 // P10.1, P10.2: beyond the sectors there are no places.
 func TestNoAddress(t *testing.T) {
 	for _, g := range append(samples(), largest()) {
-		for _, a := range beyond(geometry.Size(g)) {
+		for _, a := range disktest.Beyond(geometry.Size(g)) {
 			if geometry.Random(g, a) {
 				t.Fatalf("Random(%+v, %d)", g, a)
 			}
@@ -272,7 +257,7 @@ func TestNoPlace(t *testing.T) {
 	for _, g := range append(samples(), largest()) {
 		limits := [3]int{g.Bands, g.Tracks, g.Sectors}
 		for i, limit := range limits {
-			for _, n := range beyond(limit) {
+			for _, n := range disktest.Beyond(limit) {
 				for _, p := range [][3]int{{}, {g.Bands - 1, g.Tracks - 1, g.Sectors - 1}, {n, n, n}} {
 					p[i] = n
 					if got, e := geometry.Address(g, p[0], p[1], p[2]); got != 0 || e != api.ErrRange {

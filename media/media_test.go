@@ -7,95 +7,15 @@ import (
 	"testing"
 
 	"tegula/api"
+	"tegula/disktest"
 	"tegula/media"
 )
 
-// numbers is a generator of test data.
-type numbers uint64
-
-func (n *numbers) next() uint64 {
-	*n = *n*6364136223846793005 + 1442695040888963407
-	return uint64(*n) ^ uint64(*n)>>29
-}
-
-func (n *numbers) between(least, most int) int {
-	return least + int(n.next()>>1%uint64(most-least+1))
-}
-
-func (n *numbers) bytes() []byte {
-	b := make([]byte, n.between(0, api.MaxSector))
-	for i := range b {
-		b[i] = byte(n.next())
-	}
-	return b
-}
-
-func (n *numbers) geometry() api.Geometry {
-	return api.Geometry{Random: n.between(0, 4), Bands: n.between(1, 4), Tracks: n.between(1, 7), Sectors: n.between(1, 5), Overlap: n.between(0, 3)}
-}
-
-// content is what the tests know about a sector.
-type content struct {
-	band, track, position int // the band of a random sector is -1
-	state                 int
-	bytes                 []byte
-}
-
-// surface is what the tests know about the sectors of a medium, in the order of their addresses.
-type surface []content
-
-// blank lists the blank sectors of a valid geometry.
-func blank(g api.Geometry) surface {
-	var s surface
-	for range g.Random {
-		s = append(s, content{band: -1})
-	}
-	for band := range g.Bands {
-		for track := range g.Tracks {
-			for position := range g.Sectors {
-				s = append(s, content{band: band, track: track, position: position})
-			}
-		}
-	}
-	return s
-}
-
-// write searches all sectors for those that a write of sector a destroys.
-func (s surface) write(a, overlap int, b []byte) {
-	s[a].state, s[a].bytes = api.SectorWritten, bytes.Clone(b)
-	from := s[a]
-	for i, to := range s {
-		if from.band >= 0 && to.band == from.band && to.position == from.position && to.track > from.track && to.track-from.track <= overlap {
-			s[i].state, s[i].bytes = api.SectorDestroyed, nil
-		}
-	}
-}
-
-func (s surface) erase(band int) {
-	for i := range s {
-		if s[i].band == band {
-			s[i].state, s[i].bytes = api.SectorBlank, nil
-		}
-	}
-}
-
 // check compares all sectors of a medium with what is known about them.
-func check(t *testing.T, m *media.Media, s surface) {
+func check(t *testing.T, m *media.Media, s disktest.Surface) {
 	t.Helper()
-	for a, want := range s {
-		if got := m.State(a); got != want.state {
-			t.Fatalf("%+v: State(%d) = %d, want %d", m.Geometry(), a, got, want.state)
-		}
-		got, e := m.Read(a)
-		if want.state != api.SectorWritten {
-			if len(got) != 0 || e != api.ErrMedia {
-				t.Fatalf("%+v: Read(%d) of state %d = %v, %d", m.Geometry(), a, want.state, got, e)
-			}
-			continue
-		}
-		if e != api.OK || !bytes.Equal(got, want.bytes) {
-			t.Fatalf("%+v: Read(%d) = %v, %d, want %v", m.Geometry(), a, got, e, want.bytes)
-		}
+	if d := s.Difference(m); d != "" {
+		t.Fatalf("%+v: %s", m.Geometry(), d)
 	}
 }
 
@@ -118,53 +38,28 @@ func must(t *testing.T, e api.Errno) {
 }
 
 // change does one write or one erasure, the same to a medium and to what is known about it.
-func change(t *testing.T, data *numbers, m *media.Media, s surface) {
+func change(t *testing.T, data *disktest.Numbers, m *media.Media, s disktest.Surface) {
 	t.Helper()
 	g := m.Geometry()
-	if data.between(0, 9) == 0 {
-		band := data.between(0, g.Bands-1)
+	if data.Between(0, 9) == 0 {
+		band := data.Between(0, g.Bands-1)
 		must(t, m.Erase(band))
-		s.erase(band)
+		s.Erase(band)
 		return
 	}
-	a, b := data.between(0, len(s)-1), data.bytes()
+	a, b := data.Between(0, len(s)-1), data.Bytes()
 	must(t, m.Write(a, b))
-	s.write(a, g.Overlap, b)
+	s.Write(a, g.Overlap, b)
 }
 
 // used returns a medium after many changes, and what is known about it.
-func used(t *testing.T, data *numbers, g api.Geometry) (*media.Media, surface) {
+func used(t *testing.T, data *disktest.Numbers, g api.Geometry) (*media.Media, disktest.Surface) {
 	t.Helper()
-	m, s := made(t, g), blank(g)
+	m, s := made(t, g), disktest.Blank(g)
 	for range 2 * len(s) {
 		change(t, data, m, s)
 	}
 	return m, s
-}
-
-// samples lists valid geometries of all overlaps, with few and with many tracks, and random ones.
-func samples() []api.Geometry {
-	all := []api.Geometry{
-		{Bands: 1, Tracks: 1, Sectors: 1},
-		{Bands: 1, Tracks: 1, Sectors: 1, Overlap: 3},
-		{Random: 1, Bands: 1, Tracks: 1, Sectors: 4, Overlap: 1},
-		{Random: 3, Bands: 2, Tracks: 16, Sectors: 1, Overlap: 3},
-		{Bands: 1, Tracks: 2, Sectors: 64, Overlap: 2},
-		{Random: 40, Bands: 8, Tracks: 1, Sectors: 1, Overlap: 2},
-	}
-	for overlap := range api.MaxOverlap + 1 {
-		all = append(all, api.Geometry{Random: 2, Bands: 3, Tracks: 5, Sectors: 2, Overlap: overlap})
-	}
-	data := numbers(11)
-	for range 20 {
-		all = append(all, data.geometry())
-	}
-	return all
-}
-
-// beyond lists numbers that are no index of n things.
-func beyond(n int) []int {
-	return []int{math.MinInt, math.MinInt32, -n - 1, -n, -2, -1, n, n + 1, 2*n + 1, math.MaxInt32, 1 << 32, 1 << 62, math.MaxInt - 1, math.MaxInt}
 }
 
 // P11.1: the example of the chapter, and the one of the document.
@@ -188,12 +83,12 @@ func TestExamples(t *testing.T) {
 
 // P11.1: a new medium has the given geometry, and its sectors are blank.
 func TestNew(t *testing.T) {
-	for _, g := range samples() {
+	for _, g := range disktest.Geometries() {
 		m := made(t, g)
 		if m.Geometry() != g {
 			t.Errorf("Geometry = %+v, want %+v", m.Geometry(), g)
 		}
-		check(t, m, blank(g))
+		check(t, m, disktest.Blank(g))
 	}
 }
 
@@ -222,7 +117,7 @@ func TestNil(t *testing.T) {
 	if m.Geometry() != (api.Geometry{}) || m.Clone() != nil {
 		t.Error("Geometry or Clone of nil")
 	}
-	for _, a := range append(beyond(4), 0, 1) {
+	for _, a := range append(disktest.Beyond(4), 0, 1) {
 		if got := m.State(a); got != api.SectorBlank {
 			t.Errorf("State(%d) = %d", a, got)
 		}
@@ -255,10 +150,10 @@ func TestZero(t *testing.T) {
 
 // P11.1: sectors and bands that do not exist; nothing changes, and ErrRange comes before ErrLimit.
 func TestRange(t *testing.T) {
-	data := numbers(5)
-	for _, g := range samples() {
+	data := disktest.Numbers(5)
+	for _, g := range disktest.Geometries() {
 		m, s := used(t, &data, g)
-		for _, a := range beyond(len(s)) {
+		for _, a := range disktest.Beyond(len(s)) {
 			if got := m.State(a); got != api.SectorBlank {
 				t.Errorf("%+v: State(%d) = %d", g, a, got)
 			}
@@ -271,7 +166,7 @@ func TestRange(t *testing.T) {
 				}
 			}
 		}
-		for _, band := range beyond(g.Bands) {
+		for _, band := range disktest.Beyond(g.Bands) {
 			if e := m.Erase(band); e != api.ErrRange {
 				t.Errorf("%+v: Erase(%d) = %d", g, band, e)
 			}
@@ -283,12 +178,12 @@ func TestRange(t *testing.T) {
 // P11.1: a sector has from 0 to 64 bytes; a write of more changes nothing.
 func TestLimit(t *testing.T) {
 	g := api.Geometry{Random: 1, Bands: 1, Tracks: 2, Sectors: 1, Overlap: 1}
-	m, s := made(t, g), blank(g)
+	m, s := made(t, g), disktest.Blank(g)
 	long := bytes.Repeat([]byte{0x5A}, 1<<16)
 	for a := range s {
 		for _, b := range [][]byte{nil, {}, {0}, long[:63], long[:64]} {
 			must(t, m.Write(a, b))
-			s.write(a, g.Overlap, b)
+			s.Write(a, g.Overlap, b)
 			check(t, m, s)
 			for _, n := range []int{65, 66, 128, 1 << 16} {
 				if e := m.Write(a, long[:n]); e != api.ErrLimit {
@@ -329,9 +224,9 @@ func TestStates(t *testing.T) {
 
 // P11.1 and P11.2: after each of many writes and erasures, exactly the specified sectors have changed.
 func TestLocality(t *testing.T) {
-	data := numbers(2)
-	for _, g := range samples() {
-		m, s := made(t, g), blank(g)
+	data := disktest.Numbers(2)
+	for _, g := range disktest.Geometries() {
+		m, s := made(t, g), disktest.Blank(g)
 		for range min(3*len(s), 150) {
 			change(t, &data, m, s)
 			check(t, m, s)
@@ -344,17 +239,17 @@ func TestLocality(t *testing.T) {
 
 // P11.2: the erasure of each band leaves the random sectors and the other bands as they are.
 func TestErase(t *testing.T) {
-	data := numbers(3)
-	for _, g := range samples() {
+	data := disktest.Numbers(3)
+	for _, g := range disktest.Geometries() {
 		for band := range g.Bands {
-			m, s := made(t, g), blank(g)
+			m, s := made(t, g), disktest.Blank(g)
 			for a := range s {
-				b := data.bytes()
+				b := data.Bytes()
 				must(t, m.Write(a, b))
-				s.write(a, g.Overlap, b)
+				s.Write(a, g.Overlap, b)
 			}
 			must(t, m.Erase(band))
-			s.erase(band)
+			s.Erase(band)
 			check(t, m, s)
 			must(t, m.Erase(band))
 			check(t, m, s)
@@ -364,8 +259,8 @@ func TestErase(t *testing.T) {
 
 // P11.1: a copy has the geometry and the sectors of the original, and the two do not affect each other.
 func TestClone(t *testing.T) {
-	data := numbers(4)
-	for _, g := range samples() {
+	data := disktest.Numbers(4)
+	for _, g := range disktest.Geometries() {
 		m, s := used(t, &data, g)
 		c, copied := m.Clone(), slices.Clone(s)
 		if c == m || c.Geometry() != g {
@@ -413,15 +308,15 @@ func TestNewMemory(t *testing.T) {
 
 // P11.3: whatever a band contained, after its erasure it can be written in the order of the addresses, and all of it can be read.
 func TestSequential(t *testing.T) {
-	data := numbers(6)
-	for _, g := range samples() {
+	data := disktest.Numbers(6)
+	for _, g := range disktest.Geometries() {
 		m, _ := used(t, &data, g)
 		for band := range g.Bands {
 			must(t, m.Erase(band))
 			var kept [][]byte
 			first := g.Random + band*g.Tracks*g.Sectors
 			for i := range g.Tracks * g.Sectors {
-				b := data.bytes()
+				b := data.Bytes()
 				must(t, m.Write(first+i, b))
 				kept = append(kept, b)
 			}
