@@ -270,7 +270,7 @@ func TestFree(t *testing.T) {
 	}
 }
 
-// P16.1: all lists of up to three bands with few numbers, valid or not, for small sizes.
+// P16.1: all lists of one or two bands with small numbers, valid or not, and some of three, for small sizes.
 func TestSmallLists(t *testing.T) {
 	var bands []api.BandInfo
 	for used := -1; used <= 3; used++ {
